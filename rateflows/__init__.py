@@ -1,0 +1,1 @@
+"""Rateflows: flows of boxes that eat and give tokens at rates."""

@@ -1,0 +1,75 @@
+"""Checks of arguments, each of which raises the error that the document names."""
+
+from rateflows.errors import BadBox, BadFlow, BadMarks, BadWord
+
+MOST_BOXES = 8
+MOST_PIPES = 16
+MOST_RATE = 999
+MOST_TOKENS = 99999
+MOST_FIRINGS = 2000
+
+
+def is_number(value, low, high):
+    """Tell whether a value is an integer from low to high."""
+    # Python counts True and False as integers, the document does not.
+    if isinstance(value, bool) or not isinstance(value, int):
+        return False
+    return low <= value <= high
+
+
+def is_box(value, boxes):
+    """Tell whether a value names one of so many boxes."""
+    return is_number(value, 0, boxes - 1)
+
+
+def is_row(value, many):
+    """Tell whether a value is a tuple of so many items."""
+    return isinstance(value, tuple) and len(value) == many
+
+
+def is_pipe(value, boxes):
+    """Tell whether a value is a pipe between some of so many boxes."""
+    if not is_row(value, 5):
+        return False
+    one, other, give, eat, start = value
+    if not is_box(one, boxes) or not is_box(other, boxes):
+        return False
+    if not is_number(give, 1, MOST_RATE) or not is_number(eat, 1, MOST_RATE):
+        return False
+    return is_number(start, 0, MOST_TOKENS)
+
+
+def check_flow(flow):
+    """Raise BadFlow unless the value is a flow."""
+    if not is_row(flow, 2):
+        raise BadFlow(None)
+    boxes, pipes = flow
+    if not is_number(boxes, 1, MOST_BOXES) or not isinstance(pipes, tuple) or len(pipes) > MOST_PIPES:
+        raise BadFlow(None)
+    for index, pipe in enumerate(pipes):
+        if not is_pipe(pipe, boxes):
+            raise BadFlow(index)
+
+
+def check_box(flow, box):
+    """Raise BadBox unless the value is a box of the flow."""
+    if not is_box(box, flow[0]):
+        raise BadBox("no box of the flow")
+
+
+def check_marks(flow, some):
+    """Raise BadMarks unless the value is tokens for all pipes of the flow."""
+    if not is_row(some, len(flow[1])):
+        raise BadMarks(None)
+    for index, tokens in enumerate(some):
+        if not is_number(tokens, 0, MOST_TOKENS):
+            raise BadMarks(index)
+
+
+def check_word(flow, word):
+    """Raise BadWord unless the value is a tuple of boxes of the flow, not too long."""
+    if not isinstance(word, tuple) or len(word) > MOST_FIRINGS:
+        raise BadWord(None)
+    for box in word:
+        if not is_box(box, flow[0]):
+            raise BadWord(None)
