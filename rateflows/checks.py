@@ -1,12 +1,13 @@
 """Checks of arguments, each of which raises the error that the document names."""
 
-from rateflows.errors import BadBox, BadFlow, BadMarks, BadWord
+from rateflows.errors import BadBox, BadCounts, BadFlow, BadMarks, BadWord
 
 MOST_BOXES = 8
 MOST_PIPES = 16
 MOST_RATE = 999
 MOST_TOKENS = 99999
 MOST_FIRINGS = 2000
+MOST_COUNT = 200
 
 
 def is_number(value, low, high):
@@ -73,3 +74,12 @@ def check_word(flow, word):
     for box in word:
         if not is_box(box, flow[0]):
             raise BadWord(None)
+
+
+def check_counts(flow, counts):
+    """Raise BadCounts unless the value is counts for all boxes of the flow."""
+    if not is_row(counts, flow[0]):
+        raise BadCounts(None)
+    for index, many in enumerate(counts):
+        if not is_number(many, 0, MOST_COUNT):
+            raise BadCounts(index)

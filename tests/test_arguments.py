@@ -4,28 +4,71 @@ import copy
 import unittest
 
 from cases import ErrorCase
-from rateflows.errors import BadBox, BadFiring, BadFlow, BadMarks, BadWord, FlowError
+from rateflows.balance import is_balanced, repetitions, shows_tilt, tilt
+from rateflows.counts import blame, can_do, ends, most_done, shows_blame, shows_word, waits, ways, word_for
+from rateflows.errors import BadBox, BadCounts, BadFiring, BadFlow, BadMarks, BadWord, FlowError, InvalidText, NotText
 from rateflows.firing import fireable, fired, lacking, line, peaks, run
 from rateflows.flows import into, is_tied, knots, marks, out_of, parts, turned, with_marks
-from samples import FLOWS, LONE, PAIR, RING, STRANGE
+from rateflows.flowtext import read_flow, write_flow
+from samples import FLOWS, LONE, PAIR, RING, STRANGE, TILTED
 
-ALONE = (parts, knots, is_tied, marks, turned, fireable)
-WITH_BOX = (into, out_of, lacking, fired)
-WITH_WORD = (run, line, peaks)
-# For each function of two arguments a second one that is right with RING.
-BESIDE = {into: 1, out_of: 1, lacking: 1, fired: 0, run: (0, 0, 1), line: (0, 0, 1), peaks: (0, 0, 1),
-          with_marks: (5, 6)}
-# Values that look like the answer, but for one thing: a list, True or False.
+# For each function the kinds of its arguments; a value may be any.
+KINDS = {
+    parts: ("flow",), knots: ("flow",), is_tied: ("flow",), marks: ("flow",), turned: ("flow",),
+    into: ("flow", "box"), out_of: ("flow", "box"), with_marks: ("flow", "marks"),
+    fireable: ("flow",), lacking: ("flow", "box"), fired: ("flow", "box"),
+    run: ("flow", "word"), line: ("flow", "word"), peaks: ("flow", "word"),
+    write_flow: ("flow",), read_flow: ("text",),
+    is_balanced: ("flow",), repetitions: ("flow",), tilt: ("flow",), shows_tilt: ("flow", "value"),
+    ends: ("flow", "counts"), can_do: ("flow", "counts"), most_done: ("flow", "counts"), waits: ("flow", "counts"),
+    blame: ("flow", "counts"), shows_blame: ("flow", "counts", "value"), word_for: ("flow", "counts"),
+    shows_word: ("flow", "counts", "value"), ways: ("flow", "counts"),
+}
+# For each kind what is right with RING, and the error for what is wrong.
+RIGHT = {"flow": RING, "box": 0, "marks": (5, 6), "word": (0, 0, 1), "text": "2 0*2>1>3*1", "counts": (1, 1),
+         "value": None}
+ERRORS = {"flow": BadFlow, "box": BadBox, "marks": BadMarks, "word": BadWord, "text": NotText, "counts": BadCounts}
+# Those of which the error tells the index of an item, if there are as many items as there should be.
+ROWS = ("marks", "counts")
+# Functions that judge a value.
+JUDGES = (shows_tilt, shows_blame, shows_word)
+# Values that look like the flow, but for one thing: a list, True or False.
 TWINS = ([2, RING[1]], (2, [*RING[1]]), (True, ()), (2, ((False, True, 2, 3, 1),)), (2, ((0, 1, True, 3, 1),)),
          (2, ((0, 1, 2, True, 1),)), (2, ((0, 1, 2, 3, True),)), (2, ([0, 1, 2, 3, 1],)), {0: 2, 1: ()})
+# Values that some function takes, and others that are nearly so.
+COMMON = (0, 1, 2, -1, 201, (), (0, 0), (1, 1), (0, 0, 1), (201, 1), (True, False), [0, 0], [0, 0, 1], {0: [1]},
+          ((0,), [1]), ((0, True), (1, True)), [(0, True), (1, True)], "1", "2 0*2>1>3*1", "2 0*2")
+
+
+def right_arguments(ask):
+    return [RIGHT[kind] for kind in KINDS[ask]]
+
+
+def wrong_values(kind):
+    """Return the values that are wrong for an argument of a kind, each with the fields of its error."""
+    values = [value for value in STRANGE if kind != "text" or not isinstance(value, str)]
+    if kind == "value":
+        return []
+    if ERRORS[kind] in (BadBox, NotText):
+        return [(value, {}) for value in values]
+    if kind not in ROWS:
+        return [(value, {"index": None}) for value in values]
+    return [(value, {"index": 0 if isinstance(value, tuple) and len(value) == 2 else None}) for value in values]
 
 
 def all_calls():
     """Return pairs of a function and arguments, right ones and wrong ones."""
-    flows = [*FLOWS, *STRANGE, *TWINS]
-    seconds = [*STRANGE, 0, 1, 2, -1, (0, 0), (0, 0, 1), (1, 1), [0, 0, 1], {0: [1]}, ((0,), [1])]
-    calls = [(ask, (flow,)) for ask in ALONE for flow in flows]
-    return calls + [(ask, (flow, other)) for ask in BESIDE for flow in flows for other in seconds]
+    flows = [*FLOWS, TILTED, *STRANGE, *TWINS]
+    calls = []
+    for ask, kinds in KINDS.items():
+        right = right_arguments(ask)
+        for flow in (flows if kinds[0] == "flow" else COMMON + STRANGE):
+            calls.append((ask, (flow, *right[1:])))
+            if len(kinds) == 2:
+                calls.extend((ask, (flow, value)) for value in COMMON)
+        for at in range(len(kinds)):
+            calls.extend((ask, (*right[:at], value, *right[at + 1:])) for value in (*COMMON, *STRANGE))
+    return calls
 
 
 def outcome(ask, arguments):
@@ -44,45 +87,51 @@ def kinds_within(value):
 
 
 class ArgumentsTest(ErrorCase):
-    def test_any_value_for_the_flow(self):
-        for value in (*STRANGE, 0, 2, (2,), (2, (), ())):
-            for ask in ALONE:
-                with self.subTest(ask=ask, value=value):
-                    self.assert_error(BadFlow, None, ask, value)
-            for ask, other in BESIDE.items():
-                with self.subTest(ask=ask, value=value):
-                    self.assert_error(BadFlow, None, ask, value, other)
+    def test_any_value_for_each_argument(self):
+        for ask, kinds in KINDS.items():
+            right = right_arguments(ask)
+            for at, kind in enumerate(kinds):
+                for value, fields in wrong_values(kind):
+                    with self.subTest(ask=ask, at=at, value=value):
+                        self.assert_fields(ERRORS[kind], fields, ask, *right[:at], value, *right[at + 1:])
+
+    def test_the_error_of_the_leftmost_argument(self):
+        for ask, kinds in KINDS.items():
+            right = right_arguments(ask)
+            for at, kind in enumerate(kinds[:-1]):
+                for value, fields in wrong_values(kind):
+                    for other in (None, True, (-1,), (201, 201), [0]):
+                        behind = [other for _ in kinds[at + 1:]]
+                        with self.subTest(ask=ask, at=at, value=value, other=other):
+                            self.assert_fields(ERRORS[kind], fields, ask, *right[:at], value, *behind)
 
     def test_an_item_that_is_no_pipe(self):
         pipe = RING[1][0]
         for item in (*STRANGE, (0, 2, 1, 1, 0), (0, 1, 0, 1, 0), (0, 1, 1, 1000, 0), (0, 1, 1, 1, 100000)):
-            for ask in ALONE:
-                with self.subTest(ask=ask, item=item):
-                    self.assert_error(BadFlow, 1, ask, (2, (pipe, item, pipe)))
-            for ask, other in BESIDE.items():
-                with self.subTest(ask=ask, item=item):
-                    self.assert_error(BadFlow, 1, ask, (2, (pipe, item, pipe)), other)
+            for ask, kinds in KINDS.items():
+                if kinds[0] == "flow":
+                    with self.subTest(ask=ask, item=item):
+                        flow = (2, (pipe, item, pipe))
+                        self.assert_error(BadFlow, 1, ask, flow, *right_arguments(ask)[1:])
+                        self.assert_error(BadFlow, 1, ask, flow, *[None for _ in kinds[1:]])
 
     def test_true_and_false_are_not_integers(self):
-        for ask in WITH_BOX:
-            self.assert_plain_error(BadBox, ask, RING, False)
-            self.assert_plain_error(BadBox, ask, RING, True)
-        for ask in WITH_WORD:
-            self.assert_error(BadWord, None, ask, RING, (False,))
-        self.assert_error(BadMarks, 1, with_marks, RING, (5, True))
-        for index, flow in enumerate(TWINS):
-            told = None if index in (0, 1, 2, 8) else 0
-            for ask in ALONE:
-                with self.subTest(ask=ask, flow=flow):
-                    self.assert_error(BadFlow, told, ask, flow)
-
-    def test_the_error_of_the_leftmost_argument(self):
-        for ask in BESIDE:
-            for other in (*STRANGE, 9, (9,), (-1,)):
-                with self.subTest(ask=ask, other=other):
-                    self.assert_error(BadFlow, None, ask, (0, ()), other)
-                    self.assert_error(BadFlow, None, ask, [], other)
-                    self.assert_error(BadFlow, 0, ask, (2, (PAIR,)), other)
+        for ask, kinds in KINDS.items():
+            right = right_arguments(ask)
+            if "box" in kinds:
+                self.assert_plain_error(BadBox, ask, RING, False)
+                self.assert_plain_error(BadBox, ask, RING, True)
+            if "word" in kinds:
+                self.assert_error(BadWord, None, ask, RING, (False,))
+            for kind in ROWS:
+                if kind in kinds:
+                    self.assert_error(ERRORS[kind], 0, ask, RING, (False, 5), *right[2:])
+                    self.assert_error(ERRORS[kind], 1, ask, RING, (5, True), *right[2:])
+            for index, flow in enumerate(TWINS):
+                if kinds[0] == "flow":
+                    told = None if index in (0, 1, 2, 8) else 0
+                    with self.subTest(ask=ask, flow=flow):
+                        self.assert_error(BadFlow, told, ask, flow, *right[1:])
 
     def test_the_error_that_is_named_first(self):
         self.assert_plain_error(BadBox, fired, RING, 2)
@@ -90,6 +139,15 @@ class ArgumentsTest(ErrorCase):
         self.assert_error(BadMarks, None, with_marks, RING, (-1,))
         self.assert_error(BadMarks, 0, with_marks, RING, (-1, None))
         self.assert_error(BadWord, None, run, RING, (1, 2))
+        self.assert_fields(InvalidText, {"place": 0}, read_flow, "0 9")
+
+    def test_a_function_that_judges_returns_a_result_for_every_value(self):
+        for ask in JUDGES:
+            for flow in (RING, TILTED, PAIR):
+                right = [flow, *right_arguments(ask)[1:-1]]
+                for value in (*STRANGE, *COMMON, *TWINS, *FLOWS):
+                    with self.subTest(ask=ask, flow=flow, value=value):
+                        self.assertIn(repr(ask(*right, value)), ("True", "False"))
 
     def test_nothing_but_errors_of_the_program_is_raised(self):
         for ask, arguments in all_calls():
@@ -112,11 +170,19 @@ class ArgumentsTest(ErrorCase):
             for ask in (parts, knots, marks, turned, fireable):
                 self.assertEqual(kinds_within(ask(flow)) - {int}, {tuple})
             self.assertIs(is_tied(flow).__class__, bool)
+            self.assertIs(is_balanced(flow).__class__, bool)
             self.assertEqual(kinds_within(with_marks(flow, marks(flow))), {int, tuple})
             self.assertEqual(kinds_within([into(flow, 0), out_of(flow, 0), lacking(flow, 0)]) - {int}, {list, tuple})
-            for ask in WITH_WORD:
+            for ask in (run, line, peaks):
                 self.assertEqual(kinds_within(ask(flow, (0,) * (0 in fireable(flow)))) - {int}, {tuple})
+            counts = (2,) * flow[0]
+            for ask in (ends, most_done, waits):
+                self.assertEqual(kinds_within(ask(flow, counts)) - {int}, {tuple})
+            self.assertIs(can_do(flow, counts).__class__, bool)
+            self.assertEqual(kinds_within([word_for(flow, counts), blame(flow, counts)]), {list, tuple, int, type(None)})
         self.assertEqual(kinds_within([fired(LONE, 0), fired(RING, 0), run(RING, (0, 0, 1))]), {int, list, tuple})
+        self.assertEqual(kinds_within([repetitions(RING), read_flow("2 0*2>1>3*1")]), {int, list, tuple})
+        self.assertIs(ways(RING, (1, 1)).__class__, int)
 
 
 if __name__ == "__main__":

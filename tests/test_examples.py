@@ -2,9 +2,12 @@
 
 import unittest
 
-from rateflows.errors import BadFlow, BadWord
+from rateflows.balance import is_balanced, repetitions, shows_tilt, tilt
+from rateflows.counts import blame, can_do, ends, most_done, shows_word, waits, ways, word_for
+from rateflows.errors import BadFlow, BadWord, InvalidText, NotBalanced
 from rateflows.firing import fireable, fired, lacking, line, peaks, run
 from rateflows.flows import into, is_tied, knots, marks, out_of, parts, turned, with_marks
+from rateflows.flowtext import read_flow, write_flow
 
 
 class ExamplesTest(unittest.TestCase):
@@ -31,6 +34,34 @@ class ExamplesTest(unittest.TestCase):
         with self.assertRaises(BadWord) as caught:
             run((2, ((0, 1, 2, 3, 1),)), (0, 1, 1))
         self.assertEqual(caught.exception.index, 2)
+
+    def test_flowtext(self):
+        ring = (2, ((0, 1, 2, 3, 1), (1, 0, 3, 2, 4)))
+        answers = [write_flow(ring), read_flow(" 1  0*2>3>2*0 ")]
+        self.assertEqual(repr(answers), repr(["2 0*2>1>3*1 1*3>4>2*0", (1, ((0, 0, 2, 2, 3),))]))
+
+    def test_flowtext_error(self):
+        with self.assertRaises(InvalidText) as caught:
+            read_flow("2 0*2>1>3*2")
+        self.assertEqual(caught.exception.place, 10)
+
+    def test_balance(self):
+        tilted = (2, ((0, 1, 1, 2, 0), (1, 0, 1, 1, 0)))
+        answers = [repetitions((2, ((0, 1, 2, 3, 1),))), repetitions((3, ((0, 1, 4, 6, 0),))), is_balanced(tilted),
+                   shows_tilt(tilted, ((0, True), (1, True))), shows_tilt(tilted, ((0, True), (0, False))),
+                   tilt((2, ((0, 1, 2, 3, 1),)))]
+        self.assertEqual(repr(answers), repr([(3, 2), (3, 2, 1), False, True, False, None]))
+
+    def test_balance_error(self):
+        with self.assertRaises(NotBalanced):
+            repetitions((2, ((0, 1, 1, 2, 0), (1, 0, 1, 1, 0))))
+
+    def test_counts(self):
+        pair = (2, ((0, 1, 2, 3, 1),))
+        answers = [ends(pair, (1, 2)), can_do(pair, (1, 1)), can_do(pair, (1, 2)), most_done(pair, (1, 2)),
+                   waits(pair, (1, 2)), blame(pair, (1, 2)), word_for(pair, (3, 2)), ways(pair, (3, 2)),
+                   shows_word(pair, (3, 2), (0, 1, 0, 0, 1))]
+        self.assertEqual(repr(answers), repr([(-3,), True, False, (1, 1), (0,), (0,), (0, 0, 0, 1, 1), 3, True]))
 
 
 if __name__ == "__main__":
