@@ -1,6 +1,6 @@
 """Checks of arguments, each of which raises the error that the document names."""
 
-from rateflows.errors import BadBox, BadCounts, BadFlow, BadMarks, BadWord
+from rateflows.errors import BadBox, BadCounts, BadFlow, BadLoop, BadMarks, BadRoom, BadWord
 
 MOST_BOXES = 8
 MOST_PIPES = 16
@@ -8,6 +8,8 @@ MOST_RATE = 999
 MOST_TOKENS = 99999
 MOST_FIRINGS = 2000
 MOST_COUNT = 200
+MOST_TIMES = 999
+MOST_DEPTH = 8
 
 
 def is_number(value, low, high):
@@ -83,3 +85,39 @@ def check_counts(flow, counts):
     for index, many in enumerate(counts):
         if not is_number(many, 0, MOST_COUNT):
             raise BadCounts(index)
+
+
+def check_room(flow, room):
+    """Raise BadRoom unless the value is room for all pipes of the flow."""
+    if not is_row(room, len(flow[1])):
+        raise BadRoom(None)
+    for index, places in enumerate(room):
+        if not is_number(places, flow[1][index][4], MOST_TOKENS):
+            raise BadRoom(index)
+
+
+def check_loop(loop):
+    """Raise BadLoop unless the value is looped code."""
+    loop_firings(loop, 0)
+
+
+def loop_firings(items, depth):
+    """Return how many firings looped code is that stands in so many stretches, BadLoop if it is none."""
+    if not isinstance(items, tuple) or depth > MOST_DEPTH:
+        raise BadLoop("no tuple of items, or in too many stretches")
+    many = 0
+    for item in items:
+        many += 1 if is_box(item, MOST_BOXES) else stretch_firings(item, depth)
+        if many > MOST_FIRINGS:
+            raise BadLoop("too many firings")
+    return many
+
+
+def stretch_firings(item, depth):
+    """Return how many firings a pair of times and a stretch is that stands in so many stretches, BadLoop if none."""
+    if not is_row(item, 2) or not is_number(item[0], 2, MOST_TIMES):
+        raise BadLoop("no box, and no pair of times and a stretch")
+    body = loop_firings(item[1], depth + 1)
+    if body == 0:
+        raise BadLoop("an empty stretch")
+    return item[0] * body

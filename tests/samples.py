@@ -15,6 +15,10 @@ TILTED = (2, ((0, 1, 1, 2, 0), (1, 0, 1, 1, 0)))
 SKEW = (3, ((0, 1, 1, 2, 0), (1, 2, 2, 1, 0), (0, 2, 1, 1, 0)))
 # Balanced, but the boxes 1 and 2 never get all the tokens of a round.
 DEAD = (3, ((1, 1, 1, 1, 0), (1, 2, 1, 1, 2)))
+# Rounds of 2000 firings, of one more, and of so many that can't be done.
+FULL_ROUND = (4, ((0, 1, 999, 1, 0), (0, 2, 999, 1, 0), (0, 3, 1, 1, 0)))
+HEAVY = (5, FULL_ROUND[1])
+DEAD_HEAVY = (5, FULL_ROUND[1] + ((4, 4, 1, 1, 0),))
 FLOWS = (RING, PAIR, OWN, LONE, MIXED, WIDEST, (8, ()), (3, ((0, 2, 1, 1, 0),)))
 
 # Values of every kind that a caller may pass, none of which is an integer, a flow, tokens or a word.

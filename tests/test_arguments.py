@@ -6,11 +6,17 @@ import unittest
 from cases import ErrorCase
 from rateflows.balance import is_balanced, repetitions, shows_tilt, tilt
 from rateflows.counts import blame, can_do, ends, most_done, shows_blame, shows_word, waits, ways, word_for
-from rateflows.errors import BadBox, BadCounts, BadFiring, BadFlow, BadMarks, BadWord, FlowError, InvalidText, NotText
+from rateflows.errors import (BadBox, BadCounts, BadFiring, BadFlow, BadLoop, BadMarks, BadRoom, BadWord, FlowError,
+                              InvalidText, NotBalanced, NotLive, NotText, TooMany)
 from rateflows.firing import fireable, fired, lacking, line, peaks, run
 from rateflows.flows import into, is_tied, knots, marks, out_of, parts, turned, with_marks
 from rateflows.flowtext import read_flow, write_flow
-from samples import FLOWS, LONE, PAIR, RING, STRANGE, TILTED
+from rateflows.live import endless, is_live, most_ever, round_word
+from rateflows.loops import (appearances, depth, fold_size, folded, is_schedule, loop_room, shows_fold, unrolled,
+                             write_loop)
+from rateflows.reach import all_come, comes, counts_to
+from rateflows.room import branches, is_enough, least_room, least_rooms, most_with, own_rooms, roomed, word_room
+from samples import DEAD, DEAD_HEAVY, FLOWS, HEAVY, LONE, PAIR, RING, SKEW, STRANGE, TILTED
 
 # For each function the kinds of its arguments; a value may be any.
 KINDS = {
@@ -23,21 +29,36 @@ KINDS = {
     ends: ("flow", "counts"), can_do: ("flow", "counts"), most_done: ("flow", "counts"), waits: ("flow", "counts"),
     blame: ("flow", "counts"), shows_blame: ("flow", "counts", "value"), word_for: ("flow", "counts"),
     shows_word: ("flow", "counts", "value"), ways: ("flow", "counts"),
+    is_live: ("flow",), round_word: ("flow",), endless: ("flow",), most_ever: ("flow",),
+    counts_to: ("flow", "marks"), comes: ("flow", "marks"), all_come: ("flow",),
+    roomed: ("flow", "room"), most_with: ("flow", "room", "counts"), is_enough: ("flow", "room"),
+    own_rooms: ("flow",), branches: ("flow",), word_room: ("flow",), least_room: ("flow",),
+    least_rooms: ("flow", "room"),
+    unrolled: ("loop",), appearances: ("loop",), depth: ("loop",), write_loop: ("loop",),
+    is_schedule: ("flow", "loop"), loop_room: ("flow", "loop"),
+    fold_size: ("boxes",), folded: ("boxes",), shows_fold: ("boxes", "value"),
 }
+# Those that ask whether a flow lives, and those of them that are for such flows only.
+OF_ROUNDS = (is_live, round_word, endless, most_ever, is_enough, own_rooms, word_room, least_room, least_rooms)
+FOR_LIVE = (round_word, own_rooms, word_room, least_room, least_rooms)
+FOR_BALANCED = (*OF_ROUNDS, repetitions, counts_to, comes, is_schedule, loop_room)
 # For each kind what is right with RING, and the error for what is wrong.
 RIGHT = {"flow": RING, "box": 0, "marks": (5, 6), "word": (0, 0, 1), "text": "2 0*2>1>3*1", "counts": (1, 1),
-         "value": None}
-ERRORS = {"flow": BadFlow, "box": BadBox, "marks": BadMarks, "word": BadWord, "text": NotText, "counts": BadCounts}
+         "room": (5, 5), "loop": (0, (2, (0, 1))), "boxes": (0, 0, 1), "value": None}
+ERRORS = {"flow": BadFlow, "box": BadBox, "marks": BadMarks, "word": BadWord, "text": NotText, "counts": BadCounts,
+          "room": BadRoom, "loop": BadLoop, "boxes": BadWord}
 # Those of which the error tells the index of an item, if there are as many items as there should be.
-ROWS = ("marks", "counts")
+ROWS = ("marks", "counts", "room")
 # Functions that judge a value.
-JUDGES = (shows_tilt, shows_blame, shows_word)
+JUDGES = (shows_tilt, shows_blame, shows_word, shows_fold)
 # Values that look like the flow, but for one thing: a list, True or False.
 TWINS = ([2, RING[1]], (2, [*RING[1]]), (True, ()), (2, ((False, True, 2, 3, 1),)), (2, ((0, 1, True, 3, 1),)),
          (2, ((0, 1, 2, True, 1),)), (2, ((0, 1, 2, 3, True),)), (2, ([0, 1, 2, 3, 1],)), {0: 2, 1: ()})
 # Values that some function takes, and others that are nearly so.
 COMMON = (0, 1, 2, -1, 201, (), (0, 0), (1, 1), (0, 0, 1), (201, 1), (True, False), [0, 0], [0, 0, 1], {0: [1]},
-          ((0,), [1]), ((0, True), (1, True)), [(0, True), (1, True)], "1", "2 0*2>1>3*1", "2 0*2")
+          ((0,), [1]), ((0, True), (1, True)), [(0, True), (1, True)],
+          (4, 5), [4, 5], (0, (2, (0, 1))), ((2, (0,)), 1), ((2, ()),), [(2, [0]), 1], "1",
+          "2 0*2>1>3*1", "2 0*2")
 
 
 def right_arguments(ask):
@@ -49,7 +70,7 @@ def wrong_values(kind):
     values = [value for value in STRANGE if kind != "text" or not isinstance(value, str)]
     if kind == "value":
         return []
-    if ERRORS[kind] in (BadBox, NotText):
+    if ERRORS[kind] in (BadBox, NotText, BadLoop):
         return [(value, {}) for value in values]
     if kind not in ROWS:
         return [(value, {"index": None}) for value in values]
@@ -125,8 +146,15 @@ class ArgumentsTest(ErrorCase):
                 self.assert_error(BadWord, None, ask, RING, (False,))
             for kind in ROWS:
                 if kind in kinds:
-                    self.assert_error(ERRORS[kind], 0, ask, RING, (False, 5), *right[2:])
-                    self.assert_error(ERRORS[kind], 1, ask, RING, (5, True), *right[2:])
+                    at = kinds.index(kind)
+                    self.assert_error(ERRORS[kind], 0, ask, *right[:at], (False, 5), *right[at + 1:])
+                    self.assert_error(ERRORS[kind], 1, ask, *right[:at], (5, True), *right[at + 1:])
+            if "loop" in kinds:
+                self.assert_plain_error(BadLoop, ask, *right[:-1], (False,))
+                self.assert_plain_error(BadLoop, ask, *right[:-1], ((2, (True,)),))
+                self.assert_plain_error(BadLoop, ask, *right[:-1], ((True, (0,)),))
+            if "boxes" in kinds:
+                self.assert_error(BadWord, None, ask, (0, True), *right[1:])
             for index, flow in enumerate(TWINS):
                 if kinds[0] == "flow":
                     told = None if index in (0, 1, 2, 8) else 0
@@ -141,12 +169,36 @@ class ArgumentsTest(ErrorCase):
         self.assert_error(BadWord, None, run, RING, (1, 2))
         self.assert_fields(InvalidText, {"place": 0}, read_flow, "0 9")
 
+    def test_errors_of_the_flow_come_ahead_of_those_of_other_arguments(self):
+        for ask in FOR_BALANCED:
+            rest = [None for _ in KINDS[ask][1:]]
+            with self.subTest(ask=ask):
+                self.assert_error(BadFlow, None, ask, (9, ()), *rest)
+                self.assert_plain_error(NotBalanced, ask, TILTED, *rest)
+                self.assert_plain_error(NotBalanced, ask, (HEAVY[0], HEAVY[1] + ((4, 4, 1, 2, 0),)), *rest)
+                if ask in OF_ROUNDS:
+                    self.assert_fields(TooMany, {"most": 2000}, ask, HEAVY, *rest)
+                    self.assert_fields(TooMany, {"most": 2000}, ask, DEAD_HEAVY, *rest)
+                if ask in FOR_LIVE:
+                    self.assert_plain_error(NotLive, ask, DEAD, *rest)
+
+    def test_too_many_for_other_reasons_comes_behind_all_others(self):
+        wide = (2, ((0, 1, 1, 1, 0),) * 9)
+        self.assert_fields(TooMany, {"most": 8}, roomed, wide, (1,) * 9)
+        self.assert_error(BadRoom, 8, roomed, wide, (1,) * 8 + (-1,))
+        self.assert_fields(TooMany, {"most": 3000}, ways, RING, (200, 200))
+        self.assert_error(BadCounts, 1, ways, RING, (200, 201))
+        self.assert_fields(TooMany, {"most": 3000}, least_rooms, SKEW, (99, 99, 99))
+        self.assert_error(BadRoom, 2, least_rooms, SKEW, (99, 99, -1))
+        self.assert_fields(TooMany, {"most": 24}, folded, (0,) * 25)
+        self.assert_error(BadWord, None, folded, (0,) * 25 + (8,))
+
     def test_a_function_that_judges_returns_a_result_for_every_value(self):
         for ask in JUDGES:
-            for flow in (RING, TILTED, PAIR):
-                right = [flow, *right_arguments(ask)[1:-1]]
+            for first in ((RING, TILTED, PAIR) if KINDS[ask][0] == "flow" else ((), (0, 0), (0, 0, 1, 0, 0, 1))):
+                right = [first, *right_arguments(ask)[1:-1]]
                 for value in (*STRANGE, *COMMON, *TWINS, *FLOWS):
-                    with self.subTest(ask=ask, flow=flow, value=value):
+                    with self.subTest(ask=ask, first=first, value=value):
                         self.assertIn(repr(ask(*right, value)), ("True", "False"))
 
     def test_nothing_but_errors_of_the_program_is_raised(self):
@@ -178,11 +230,34 @@ class ArgumentsTest(ErrorCase):
             counts = (2,) * flow[0]
             for ask in (ends, most_done, waits):
                 self.assertEqual(kinds_within(ask(flow, counts)) - {int}, {tuple})
+            room = tuple(pipe[4] + pipe[2] for pipe in flow[1])
+            if max(room, default=0) <= 99999:
+                self.assertEqual(kinds_within(most_with(flow, room, counts)) - {int}, {tuple})
             self.assertIs(can_do(flow, counts).__class__, bool)
-            self.assertEqual(kinds_within([word_for(flow, counts), blame(flow, counts)]), {list, tuple, int, type(None)})
+            found = kinds_within([word_for(flow, counts), blame(flow, counts)])
+            self.assertEqual(found, {list, tuple, int, type(None)})
         self.assertEqual(kinds_within([fired(LONE, 0), fired(RING, 0), run(RING, (0, 0, 1))]), {int, list, tuple})
         self.assertEqual(kinds_within([repetitions(RING), read_flow("2 0*2>1>3*1")]), {int, list, tuple})
         self.assertIs(ways(RING, (1, 1)).__class__, int)
+        for flow in (RING, SKEW, PAIR):
+            for ask in (round_word, endless, own_rooms, word_room, least_room):
+                self.assertEqual(kinds_within(ask(flow)), {int, tuple})
+        self.assertEqual(kinds_within([most_ever(DEAD), counts_to(RING, (0, 5))]), {list, tuple, int, type(None)})
+        self.assertEqual(kinds_within([unrolled((0,)), appearances((0,)), folded((0, 0))]), {list, tuple, int})
+        self.assertEqual(kinds_within(loop_room(RING, (0, (2, (0, 1))))), {tuple, int})
+        self.assertEqual([ask(RING).__class__ for ask in (is_live, branches)], [bool, bool])
+        self.assertEqual([comes(RING, (0, 5)).__class__, is_enough(RING, (5, 5)).__class__], [bool, bool])
+        self.assertEqual([depth((0,)).__class__, fold_size((0,)).__class__, write_loop((0,)).__class__], [int, int, str])
+
+    def test_returned_lists_are_new(self):
+        for ask, right in ((all_come, (RING,)), (least_rooms, (RING, (6, 6)))):
+            first = ask(*right)
+            self.assertIs(first.__class__, list)
+            self.assertEqual(kinds_within(first), {list, tuple, int})
+            self.assertIsNot(ask(*right), first)
+            told = repr(first)
+            first.append(None)
+            self.assertEqual(repr(ask(*right)), told)
 
 
 if __name__ == "__main__":

@@ -9,7 +9,7 @@ from cases import ErrorCase
 from rateflows.balance import is_balanced, repetitions, shows_tilt, tilt
 from rateflows.errors import NotBalanced
 from rateflows.flows import parts
-from samples import DEAD, FLOWS, LONE, MIXED, OWN, PAIR, RING, SKEW, STRANGE, TILTED, balanced_flow, random_flow
+from samples import DEAD, LONE, MIXED, OWN, PAIR, RING, SKEW, STRANGE, TILTED, balanced_flow, random_flow
 
 SELF_TILTED = (1, ((0, 0, 2, 1, 5),))
 
@@ -157,7 +157,8 @@ class TiltTest(ErrorCase):
             deep = (deep, True)
         odd = [(), [], list(good), [*map(list, good)], tuple(map(list, good)), {0: True}, "01", 0, -1, True,
                ((0, 1), (1, 1)), ((False, True), (True, True)), ((0, True), (True, True)), ((0, "True"), (1, True)),
-               ((0, None), (1, True)), ((0,), (1,)), ((0, True, 0), (1, True, 0)), ((0, True), 1), ((0, True), (2, True)),
+               ((0, None), (1, True)), ((0,), (1,)), ((0, True, 0), (1, True, 0)), ((0, True), 1),
+               ((0, True), (2, True)),
                ((-2, True), (-1, True)), ((0, True), (-1, True)), ((None, True),), (((0, True), (1, True)),), deep,
                ((10 ** 40, True),), (([], True),), (({}, False),)]
         for value in (*STRANGE, *odd):

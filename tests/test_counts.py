@@ -91,7 +91,7 @@ class CountsTest(ErrorCase):
                     self.assert_error(BadCounts, 7, ask, (8, ()), (0,) * 7 + (many,))
 
     def test_values_that_are_no_tuples_of_as_many_items(self):
-        for value in (None, 0, 2, True, "", "00", [], [0, 0], {}, {0: 0, 1: 0}, (), (0,), (0, 0, 0), (None,), (-1,) * 3):
+        for value in (None, 0, 2, True, "", "00", [], [0, 0], {}, {0: 0, 1: 0}, (), (0,), (0, 0, 0), (None,)):
             for ask in OF_COUNTS:
                 with self.subTest(ask=ask, value=value):
                     self.assert_error(BadCounts, None, ask, RING, value)
@@ -213,6 +213,13 @@ class WaitsTest(ErrorCase):
         self.assertIs(shows_blame(SHORT, (2, 1, 1), ()), False)
         self.assertIs(shows_blame((1, ((0, 0, 1, 1, 0),)), (1,), (0, 0, 0)), True)
 
+    def test_pipes_that_are_not_waited_for_show_nothing(self):
+        # The pipe 1 holds enough, the pipe 2 leads to a box that is not left.
+        flow = (3, ((0, 1, 1, 1, 0), (0, 1, 1, 1, 5), (0, 2, 1, 1, 0)))
+        self.assertEqual(waits(flow, (3, 6, 3)), (0,))
+        for value, told in (((0,), True), ((1,), False), ((2,), False), ((1, 0), False)):
+            self.assertIs(shows_blame(flow, (3, 6, 3), value), told)
+
     def test_odd_values_for_shows_blame(self):
         odd = ((), [0], [1, 0], (False,), (True, False), (True, 0), (1, False), ("0",), (None,), ((0,),), ([],), (-1,),
                (-2,), (2,), (10 ** 30,), {0: 0}, 0, "0", False, True, ((1, 0),), (1, 0, None), (1, 0, 1))
@@ -245,8 +252,9 @@ class WaitsTest(ErrorCase):
             places = waits(flow, counts)
             if not places:
                 continue
-            for _ in range(8):
-                value = tuple(draw.choice(places) for _ in range(draw.randint(1, 4)))
+            for k in range(12):
+                some = places if k < 8 else range(len(flow[1]))
+                value = tuple(draw.choice(some) for _ in range(draw.randint(1, 4)))
                 answer = shows_blame(flow, counts, value)
                 told[answer] += 1
                 with self.subTest(flow=flow, counts=counts, value=value):

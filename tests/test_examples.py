@@ -8,6 +8,11 @@ from rateflows.errors import BadFlow, BadWord, InvalidText, NotBalanced
 from rateflows.firing import fireable, fired, lacking, line, peaks, run
 from rateflows.flows import into, is_tied, knots, marks, out_of, parts, turned, with_marks
 from rateflows.flowtext import read_flow, write_flow
+from rateflows.live import endless, is_live, most_ever, round_word
+from rateflows.loops import (appearances, depth, fold_size, folded, is_schedule, loop_room, shows_fold, unrolled,
+                             write_loop)
+from rateflows.reach import all_come, comes, counts_to
+from rateflows.room import branches, is_enough, least_room, least_rooms, most_with, own_rooms, roomed, word_room
 
 
 class ExamplesTest(unittest.TestCase):
@@ -62,6 +67,35 @@ class ExamplesTest(unittest.TestCase):
                    waits(pair, (1, 2)), blame(pair, (1, 2)), word_for(pair, (3, 2)), ways(pair, (3, 2)),
                    shows_word(pair, (3, 2), (0, 1, 0, 0, 1))]
         self.assertEqual(repr(answers), repr([(-3,), True, False, (1, 1), (0,), (0,), (0, 0, 0, 1, 1), 3, True]))
+
+    def test_live(self):
+        ring, dead = (2, ((0, 1, 2, 3, 1), (1, 0, 3, 2, 4))), (3, ((1, 1, 1, 1, 0), (1, 2, 1, 1, 2)))
+        answers = [is_live(ring), round_word(ring), is_live(dead), endless(dead), most_ever(dead)]
+        self.assertEqual(repr(answers), repr([True, (0, 0, 1, 0, 1), False, (0,), (None, 0, 2)]))
+
+    def test_reach(self):
+        ring = (2, ((0, 1, 2, 3, 1), (1, 0, 3, 2, 4)))
+        answers = [counts_to(ring, (0, 5)), counts_to(ring, (2, 4)), comes((2, ((0, 1, 2, 3, 1),)), (0,)),
+                   all_come(ring)]
+        told = [(1, 1), None, True, [(0, 5), (1, 4), (2, 3), (3, 2), (4, 1), (5, 0)]]
+        self.assertEqual(repr(answers), repr(told))
+
+    def test_room(self):
+        pair, skew = (2, ((0, 1, 2, 3, 1),)), (3, ((0, 1, 1, 2, 0), (1, 2, 2, 1, 0), (0, 2, 1, 1, 0)))
+        answers = [roomed(pair, (5,)), most_with(pair, (3,), (3, 2)), is_enough(pair, (4,)), own_rooms(pair),
+                   word_room(pair), least_room(pair), own_rooms(skew), branches(skew), least_room(skew),
+                   least_rooms(skew, (3, 3, 3))]
+        told = [(2, ((0, 1, 2, 3, 1), (1, 0, 3, 2, 4))), (2, 1), True, (4,), (7,), (4, (4,)), (2, 2, 1), False,
+                (6, (2, 2, 2)), [(2, 2, 2)]]
+        self.assertEqual(repr(answers), repr(told))
+
+    def test_loops(self):
+        loop, pair = (0, (3, (1, (2, (2,))))), (2, ((0, 1, 2, 3, 1),))
+        answers = [unrolled(loop), appearances(loop), depth(loop), write_loop(loop),
+                   is_schedule(pair, ((3, (0,)), (2, (1,)))), loop_room(pair, ((3, (0,)), (2, (1,)))),
+                   fold_size((0, 0, 1, 0, 0, 1)), folded((0, 0, 0)), shows_fold((0, 1, 0, 1), ((2, (0, 1)),))]
+        told = [(0, 1, 2, 2, 1, 2, 2, 1, 2, 2), (0, 1, 2), 2, "0 (3 1 (2 2))", True, (7,), 2, ((3, (0,)),), True]
+        self.assertEqual(repr(answers), repr(told))
 
 
 if __name__ == "__main__":
