@@ -52,6 +52,14 @@ def check_balanced(flow):
         raise NotBalanced("some pipe can't stay as it was")
 
 
+def common_count(counts, some):
+    """Return the greatest common divisor of the counts of some boxes."""
+    common = 0
+    for box in some:
+        common = gcd(common, counts[box])
+    return common
+
+
 def trails(flow):
     """Return a dict of the tuples of steps that lead to each box from the least one of its part."""
     pipes = flow[1]

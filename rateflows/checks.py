@@ -1,6 +1,6 @@
 """Checks of arguments, each of which raises the error that the document names."""
 
-from rateflows.errors import BadBox, BadCounts, BadFlow, BadLoop, BadMarks, BadRoom, BadWord
+from rateflows.errors import BadBox, BadCounts, BadFlow, BadLoop, BadMarks, BadOrder, BadRoom, BadSet, BadWord
 
 MOST_BOXES = 8
 MOST_PIPES = 16
@@ -94,6 +94,22 @@ def check_room(flow, room):
     for index, places in enumerate(room):
         if not is_number(places, flow[1][index][4], MOST_TOKENS):
             raise BadRoom(index)
+
+
+def check_set(flow, some):
+    """Raise BadSet unless the value is an ascending tuple, not empty, of boxes of the flow, none twice."""
+    if not isinstance(some, tuple) or not some or not all([is_box(box, flow[0]) for box in some]):
+        raise BadSet("no boxes of the flow")
+    if not all([before < behind for before, behind in zip(some, some[1:])]):
+        raise BadSet("boxes that do not ascend")
+
+
+def check_order(flow, order):
+    """Raise BadOrder unless the value is a tuple of all boxes of the flow, each once."""
+    if not is_row(order, flow[0]) or not all([is_box(box, flow[0]) for box in order]):
+        raise BadOrder("no boxes of the flow, or not as many")
+    if not all([box in order for box in range(flow[0])]):
+        raise BadOrder("a box is missing")
 
 
 def check_loop(loop):

@@ -36,15 +36,7 @@ def line(flow, word):
     """Return the tuple of the tokens on all pipes at first and behind each firing of a word."""
     check_flow(flow)
     check_word(flow, word)
-    pipes = flow[1]
-    held = marks(flow)
-    rows = [held]
-    for index, box in enumerate(word):
-        if short_pipes(pipes, held, box):
-            raise BadWord(index)
-        held = held_behind(pipes, held, box)
-        rows.append(held)
-    return tuple(rows)
+    return tuple(rows_behind(flow[1], word))
 
 
 def peaks(flow, word):
@@ -55,6 +47,18 @@ def peaks(flow, word):
         tokens = [row[place] for row in rows]
         room.append(pipe_peak(pipe, tokens, word))
     return tuple(room)
+
+
+def rows_behind(pipes, word):
+    """Return the list of the tokens on all pipes at first and behind each firing of a tuple of boxes."""
+    held = tuple([pipe[4] for pipe in pipes])
+    rows = [held]
+    for index, box in enumerate(word):
+        if short_pipes(pipes, held, box):
+            raise BadWord(index)
+        held = held_behind(pipes, held, box)
+        rows.append(held)
+    return rows
 
 
 def pipe_peak(pipe, tokens, word):

@@ -6,16 +6,19 @@ import unittest
 from cases import ErrorCase
 from rateflows.balance import is_balanced, repetitions, shows_tilt, tilt
 from rateflows.counts import blame, can_do, ends, most_done, shows_blame, shows_word, waits, ways, word_for
-from rateflows.errors import (BadBox, BadCounts, BadFiring, BadFlow, BadLoop, BadMarks, BadRoom, BadWord, FlowError,
-                              InvalidText, NotBalanced, NotLive, NotText, TooMany)
+from rateflows.errors import (BadBox, BadCounts, BadFiring, BadFlow, BadLoop, BadMarks, BadOrder, BadRoom, BadSet,
+                              BadWord, FlowError, InvalidText, NotBalanced, NotLive, NotText, TooMany)
 from rateflows.firing import fireable, fired, lacking, line, peaks, run
 from rateflows.flows import into, is_tied, knots, marks, out_of, parts, turned, with_marks
 from rateflows.flowtext import read_flow, write_flow
 from rateflows.live import endless, is_live, most_ever, round_word
 from rateflows.loops import (appearances, depth, fold_size, folded, is_schedule, loop_room, shows_fold, unrolled,
                              write_loop)
+from rateflows.looptext import read_loop
 from rateflows.reach import all_come, comes, counts_to
 from rateflows.room import branches, is_enough, least_room, least_rooms, most_with, own_rooms, roomed, word_room
+from rateflows.sets import all_safe, as_one, is_safe, set_round, set_shares, unfolded, within
+from rateflows.single import forward_orders, has_single, least_nest, shows_single, single
 from samples import DEAD, DEAD_HEAVY, FLOWS, HEAVY, LONE, PAIR, RING, SKEW, STRANGE, TILTED
 
 # For each function the kinds of its arguments; a value may be any.
@@ -37,20 +40,29 @@ KINDS = {
     unrolled: ("loop",), appearances: ("loop",), depth: ("loop",), write_loop: ("loop",),
     is_schedule: ("flow", "loop"), loop_room: ("flow", "loop"),
     fold_size: ("boxes",), folded: ("boxes",), shows_fold: ("boxes", "value"),
+    read_loop: ("loop text",),
+    has_single: ("flow",), single: ("flow",), shows_single: ("flow", "value"), forward_orders: ("flow",),
+    least_nest: ("flow", "order"),
+    set_shares: ("flow", "set"), as_one: ("flow", "set"), within: ("flow", "set"), is_safe: ("flow", "set"),
+    all_safe: ("flow",), unfolded: ("flow", "set", "word"), set_round: ("flow", "set"),
 }
 # Those that ask whether a flow lives, and those of them that are for such flows only.
-OF_ROUNDS = (is_live, round_word, endless, most_ever, is_enough, own_rooms, word_room, least_room, least_rooms)
-FOR_LIVE = (round_word, own_rooms, word_room, least_room, least_rooms)
-FOR_BALANCED = (*OF_ROUNDS, repetitions, counts_to, comes, is_schedule, loop_room)
+FOR_LIVE = (round_word, own_rooms, word_room, least_room, least_rooms, has_single, single, shows_single, least_nest,
+            is_safe, all_safe, unfolded, set_round)
+OF_ROUNDS = (*FOR_LIVE, is_live, endless, most_ever, is_enough)
+FOR_BALANCED = (*OF_ROUNDS, repetitions, counts_to, comes, is_schedule, loop_room, set_shares, as_one)
 # For each kind what is right with RING, and the error for what is wrong.
 RIGHT = {"flow": RING, "box": 0, "marks": (5, 6), "word": (0, 0, 1), "text": "2 0*2>1>3*1", "counts": (1, 1),
-         "room": (5, 5), "loop": (0, (2, (0, 1))), "boxes": (0, 0, 1), "value": None}
+         "room": (5, 5), "loop": (0, (2, (0, 1))), "boxes": (0, 0, 1), "value": None, "loop text": "0 (2 1)",
+         "order": (1, 0), "set": (0,)}
 ERRORS = {"flow": BadFlow, "box": BadBox, "marks": BadMarks, "word": BadWord, "text": NotText, "counts": BadCounts,
-          "room": BadRoom, "loop": BadLoop, "boxes": BadWord}
+          "room": BadRoom, "loop": BadLoop, "boxes": BadWord, "loop text": NotText, "order": BadOrder, "set": BadSet}
+PLAIN = (BadBox, NotText, BadLoop, BadOrder, BadSet)
 # Those of which the error tells the index of an item, if there are as many items as there should be.
 ROWS = ("marks", "counts", "room")
-# Functions that judge a value.
-JUDGES = (shows_tilt, shows_blame, shows_word, shows_fold)
+# Functions that judge a value, each with first arguments.
+JUDGES = {shows_tilt: (RING, TILTED, PAIR), shows_blame: (RING, TILTED, PAIR), shows_word: (RING, TILTED, PAIR),
+          shows_fold: ((), (0, 0), (0, 0, 1, 0, 0, 1)), shows_single: (RING, PAIR, SKEW, LONE)}
 # Values that look like the flow, but for one thing: a list, True or False.
 TWINS = ([2, RING[1]], (2, [*RING[1]]), (True, ()), (2, ((False, True, 2, 3, 1),)), (2, ((0, 1, True, 3, 1),)),
          (2, ((0, 1, 2, True, 1),)), (2, ((0, 1, 2, 3, True),)), (2, ([0, 1, 2, 3, 1],)), {0: 2, 1: ()})
@@ -67,10 +79,10 @@ def right_arguments(ask):
 
 def wrong_values(kind):
     """Return the values that are wrong for an argument of a kind, each with the fields of its error."""
-    values = [value for value in STRANGE if kind != "text" or not isinstance(value, str)]
+    values = [value for value in STRANGE if "text" not in kind or not isinstance(value, str)]
     if kind == "value":
         return []
-    if ERRORS[kind] in (BadBox, NotText, BadLoop):
+    if ERRORS[kind] in PLAIN:
         return [(value, {}) for value in values]
     if kind not in ROWS:
         return [(value, {"index": None}) for value in values]
@@ -143,7 +155,14 @@ class ArgumentsTest(ErrorCase):
                 self.assert_plain_error(BadBox, ask, RING, False)
                 self.assert_plain_error(BadBox, ask, RING, True)
             if "word" in kinds:
-                self.assert_error(BadWord, None, ask, RING, (False,))
+                self.assert_error(BadWord, None, ask, *right[:-1], (False,))
+                self.assert_error(BadWord, None, ask, *right[:-1], (0, 0, True))
+            if "order" in kinds:
+                self.assert_plain_error(BadOrder, ask, PAIR, (False, True))
+                self.assert_plain_error(BadOrder, ask, PAIR, (0, True))
+            if "set" in kinds:
+                self.assert_plain_error(BadSet, ask, RING, (False,), *right[2:])
+                self.assert_plain_error(BadSet, ask, RING, (0, True), *right[2:])
             for kind in ROWS:
                 if kind in kinds:
                     at = kinds.index(kind)
@@ -168,6 +187,8 @@ class ArgumentsTest(ErrorCase):
         self.assert_error(BadMarks, 0, with_marks, RING, (-1, None))
         self.assert_error(BadWord, None, run, RING, (1, 2))
         self.assert_fields(InvalidText, {"place": 0}, read_flow, "0 9")
+        self.assert_fields(InvalidText, {"place": 1}, read_loop, "(0 9)")
+        self.assert_plain_error(BadSet, set_round, (3, ((0, 1, 1, 1, 0), (1, 2, 1, 1, 0))), (0, 2))
 
     def test_errors_of_the_flow_come_ahead_of_those_of_other_arguments(self):
         for ask in FOR_BALANCED:
@@ -192,10 +213,14 @@ class ArgumentsTest(ErrorCase):
         self.assert_error(BadRoom, 2, least_rooms, SKEW, (99, 99, -1))
         self.assert_fields(TooMany, {"most": 24}, folded, (0,) * 25)
         self.assert_error(BadWord, None, folded, (0,) * 25 + (8,))
+        over = (3, ((0, 1, 1, 500, 0), (0, 2, 2, 1, 0)))
+        self.assert_fields(TooMany, {"most": 999}, as_one, over, (0, 1))
+        self.assert_plain_error(BadSet, as_one, over, (0, 1, 1))
+        self.assert_fields(TooMany, {"most": 6}, all_safe, (7, ()))
 
     def test_a_function_that_judges_returns_a_result_for_every_value(self):
         for ask in JUDGES:
-            for first in ((RING, TILTED, PAIR) if KINDS[ask][0] == "flow" else ((), (0, 0), (0, 0, 1, 0, 0, 1))):
+            for first in JUDGES[ask]:
                 right = [first, *right_arguments(ask)[1:-1]]
                 for value in (*STRANGE, *COMMON, *TWINS, *FLOWS):
                     with self.subTest(ask=ask, first=first, value=value):
@@ -245,12 +270,19 @@ class ArgumentsTest(ErrorCase):
         self.assertEqual(kinds_within([most_ever(DEAD), counts_to(RING, (0, 5))]), {list, tuple, int, type(None)})
         self.assertEqual(kinds_within([unrolled((0,)), appearances((0,)), folded((0, 0))]), {list, tuple, int})
         self.assertEqual(kinds_within(loop_room(RING, (0, (2, (0, 1))))), {tuple, int})
+        for some in ((0,), (1, 2), (0, 1, 2)):
+            for ask in (set_shares, as_one, within, set_round):
+                self.assertEqual(kinds_within(ask(SKEW, some)), {tuple, int})
+        self.assertEqual(kinds_within([single(PAIR), unfolded(PAIR, (0,), (0,)), read_loop("0 (2 1)")]), {list, tuple, int})
+        self.assertEqual(kinds_within(least_nest(PAIR, (0, 1))), {tuple, int})
+        self.assertEqual([has_single(RING).__class__, is_safe(RING, (0,)).__class__], [bool, bool])
         self.assertEqual([ask(RING).__class__ for ask in (is_live, branches)], [bool, bool])
         self.assertEqual([comes(RING, (0, 5)).__class__, is_enough(RING, (5, 5)).__class__], [bool, bool])
         self.assertEqual([depth((0,)).__class__, fold_size((0,)).__class__, write_loop((0,)).__class__], [int, int, str])
 
     def test_returned_lists_are_new(self):
-        for ask, right in ((all_come, (RING,)), (least_rooms, (RING, (6, 6)))):
+        for ask, right in ((all_come, (RING,)), (least_rooms, (RING, (6, 6))), (forward_orders, (PAIR,)),
+                           (all_safe, (RING,))):
             first = ask(*right)
             self.assertIs(first.__class__, list)
             self.assertEqual(kinds_within(first), {list, tuple, int})

@@ -11,8 +11,11 @@ from rateflows.flowtext import read_flow, write_flow
 from rateflows.live import endless, is_live, most_ever, round_word
 from rateflows.loops import (appearances, depth, fold_size, folded, is_schedule, loop_room, shows_fold, unrolled,
                              write_loop)
+from rateflows.looptext import read_loop
 from rateflows.reach import all_come, comes, counts_to
 from rateflows.room import branches, is_enough, least_room, least_rooms, most_with, own_rooms, roomed, word_room
+from rateflows.sets import all_safe, as_one, is_safe, set_round, set_shares, unfolded, within
+from rateflows.single import forward_orders, has_single, least_nest, shows_single, single
 
 
 class ExamplesTest(unittest.TestCase):
@@ -95,6 +98,30 @@ class ExamplesTest(unittest.TestCase):
                    is_schedule(pair, ((3, (0,)), (2, (1,)))), loop_room(pair, ((3, (0,)), (2, (1,)))),
                    fold_size((0, 0, 1, 0, 0, 1)), folded((0, 0, 0)), shows_fold((0, 1, 0, 1), ((2, (0, 1)),))]
         told = [(0, 1, 2, 2, 1, 2, 2, 1, 2, 2), (0, 1, 2), 2, "0 (3 1 (2 2))", True, (7,), 2, ((3, (0,)),), True]
+        self.assertEqual(repr(answers), repr(told))
+
+    def test_looptext(self):
+        self.assertEqual(repr(read_loop(" 0 (3 1  (2 2) ) ")), repr((0, (3, (1, (2, (2,)))))))
+
+    def test_looptext_error(self):
+        with self.assertRaises(InvalidText) as caught:
+            read_loop("0 (1 2)")
+        self.assertEqual(caught.exception.place, 3)
+
+    def test_single(self):
+        line = (3, ((0, 1, 1, 2, 0), (1, 2, 1, 2, 0)))
+        answers = [single((2, ((0, 1, 2, 3, 1),))), has_single(line), forward_orders(line),
+                   least_nest(line, (0, 1, 2)), shows_single(line, ((4, (0,)), (2, (1,)), 2)),
+                   single((2, ((0, 1, 2, 3, 1), (1, 0, 3, 2, 4))))]
+        told = [((3, (0,)), (2, (1,))), True, [(0, 1, 2)], (4, ((2, ((2, (0,)), 1)), 2)), True, None]
+        self.assertEqual(repr(answers), repr(told))
+
+    def test_sets(self):
+        line = (3, ((0, 1, 1, 2, 0), (1, 2, 1, 2, 0)))
+        answers = [set_shares(line, (0, 1)), as_one(line, (0, 1)), as_one(line, (0, 2)), within(line, (0, 1)),
+                   is_safe(line, (0, 2)), all_safe(line), unfolded(line, (0, 1), (0, 0, 1)), set_round(line, (1, 2))]
+        told = [(2, 1, 0), (2, ((0, 1, 1, 2, 0),)), (2, ((0, 1, 4, 2, 0), (1, 0, 1, 2, 0))), (2, ((0, 1, 1, 2, 0),)),
+                False, [(0,), (0, 1), (0, 1, 2), (1,), (1, 2), (2,)], (0, 0, 1, 0, 0, 1, 2), (0, 0, 0, 0, 1, 1, 2)]
         self.assertEqual(repr(answers), repr(told))
 
 
