@@ -1,6 +1,7 @@
 """Checks of arguments, each of which raises the error that the document names."""
 
-from rateflows.errors import BadBox, BadCounts, BadFlow, BadLoop, BadMarks, BadOrder, BadRoom, BadSet, BadWord
+from rateflows.errors import (BadBox, BadCount, BadCounts, BadFlow, BadLoop, BadMarks, BadOrder, BadRoom, BadSet,
+                              BadTimes, BadWord)
 
 MOST_BOXES = 8
 MOST_PIPES = 16
@@ -10,14 +11,19 @@ MOST_FIRINGS = 2000
 MOST_COUNT = 200
 MOST_TIMES = 999
 MOST_DEPTH = 8
+MOST_DURATION = 99
+MOST_ROUNDS = 60
+
+
+def is_whole(value):
+    """Tell whether a value is an integer."""
+    # Python counts True and False as integers, the document does not.
+    return isinstance(value, int) and not isinstance(value, bool)
 
 
 def is_number(value, low, high):
     """Tell whether a value is an integer from low to high."""
-    # Python counts True and False as integers, the document does not.
-    if isinstance(value, bool) or not isinstance(value, int):
-        return False
-    return low <= value <= high
+    return is_whole(value) and low <= value <= high
 
 
 def is_box(value, boxes):
@@ -110,6 +116,21 @@ def check_order(flow, order):
         raise BadOrder("no boxes of the flow, or not as many")
     if not all([box in order for box in range(flow[0])]):
         raise BadOrder("a box is missing")
+
+
+def check_times(flow, times):
+    """Raise BadTimes unless the value is durations for all boxes of the flow."""
+    if not is_row(times, flow[0]):
+        raise BadTimes(None)
+    for index, time in enumerate(times):
+        if not is_number(time, 1, MOST_DURATION):
+            raise BadTimes(index)
+
+
+def check_rounds(many):
+    """Raise BadCount unless the value is a number of rounds that may be asked for."""
+    if not is_number(many, 1, MOST_ROUNDS):
+        raise BadCount("no number of rounds, or too many")
 
 
 def check_loop(loop):

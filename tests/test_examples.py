@@ -4,18 +4,22 @@ import unittest
 
 from rateflows.balance import is_balanced, repetitions, shows_tilt, tilt
 from rateflows.counts import blame, can_do, ends, most_done, shows_word, waits, ways, word_for
-from rateflows.errors import BadFlow, BadWord, InvalidText, NotBalanced
+from rateflows.errors import BadCode, BadFlow, BadWord, InvalidText, NotBalanced
 from rateflows.firing import fireable, fired, lacking, line, peaks, run
 from rateflows.flows import into, is_tied, knots, marks, out_of, parts, turned, with_marks
 from rateflows.flowtext import read_flow, write_flow
+from rateflows.joins import beside, least_form, renamed, without_pipe
 from rateflows.live import endless, is_live, most_ever, round_word
 from rateflows.loops import (appearances, depth, fold_size, folded, is_schedule, loop_room, shows_fold, unrolled,
                              write_loop)
 from rateflows.looptext import read_loop
+from rateflows.machine import code_of, done_steps, fixed_room, fixed_steps, loop_of, trace
 from rateflows.reach import all_come, comes, counts_to
 from rateflows.room import branches, is_enough, least_room, least_rooms, most_with, own_rooms, roomed, word_room
 from rateflows.sets import all_safe, as_one, is_safe, set_round, set_shares, unfolded, within
 from rateflows.single import forward_orders, has_single, least_nest, shows_single, single
+from rateflows.speed import box_means, first_time, mean_time, settled, shows_slow_ring, start_times
+from rateflows.unroll import firings, needs
 
 
 class ExamplesTest(unittest.TestCase):
@@ -122,6 +126,42 @@ class ExamplesTest(unittest.TestCase):
                    is_safe(line, (0, 2)), all_safe(line), unfolded(line, (0, 1), (0, 0, 1)), set_round(line, (1, 2))]
         told = [(2, 1, 0), (2, ((0, 1, 1, 2, 0),)), (2, ((0, 1, 4, 2, 0), (1, 0, 1, 2, 0))), (2, ((0, 1, 1, 2, 0),)),
                 False, [(0,), (0, 1), (0, 1, 2), (1,), (1, 2), (2,)], (0, 0, 1, 0, 0, 1, 2), (0, 0, 0, 0, 1, 1, 2)]
+        self.assertEqual(repr(answers), repr(told))
+
+    def test_unroll(self):
+        pair = (2, ((0, 1, 2, 3, 1),))
+        answers = [firings(pair), needs(pair), needs((2, ((0, 1, 1, 1, 0), (1, 0, 1, 1, 1))))]
+        told = [((0, 0), (0, 1), (0, 2), (1, 0), (1, 1)), (((0, 0), (1, 0), 0), ((0, 2), (1, 1), 0)),
+                (((0, 0), (1, 0), 0), ((1, 0), (0, 0), 1))]
+        self.assertEqual(repr(answers), repr(told))
+
+    def test_speed(self):
+        pair, ring = (2, ((0, 1, 2, 3, 1),)), (2, ((0, 1, 1, 1, 0), (1, 0, 1, 1, 1)))
+        answers = [start_times(pair, (2, 5), 1), first_time(pair, (2, 5)), mean_time(pair, (2, 5)),
+                   box_means(pair, (2, 5)), mean_time(ring, (3, 4)), settled(ring, (3, 4)), settled(pair, (5, 3)),
+                   shows_slow_ring(ring, (3, 4), (((0, 0), (1, 0), 0), ((1, 0), (0, 0), 1)))]
+        told = [((0, 2, 4), (2, 7)), 12, (10, 1), ((6, 1), (10, 1)), (7, 1), (0, 1, 7), (0, 1, 15), True]
+        self.assertEqual(repr(answers), repr(told))
+
+    def test_machine(self):
+        line = (2, ((0, 1, 1, 2, 0),))
+        answers = [code_of((0, (2, (1,)))), loop_of((("repeat", 2), ("fire", 0), ("again",))),
+                   done_steps(code_of((0, (2, (1,))))), trace((2, ((0, 1, 2, 3, 1),)), code_of((0, 1)), (4,)),
+                   fixed_steps(line, ((2, (0,)), 1), (2,)), fixed_room(line, (0, 0, 1))]
+        told = [(("fire", 0), ("repeat", 2), ("fire", 1), ("again",)), ((2, (0,)),), (0, 2, 2),
+                ((0, (), ((0, 1),)), (1, ((0, 0),), ())), (False, True), (2,)]
+        self.assertEqual(repr(answers), repr(told))
+
+    def test_machine_error(self):
+        with self.assertRaises(BadCode) as caught:
+            loop_of((("repeat", 2), ("fire", 0)))
+        self.assertEqual(caught.exception.index, 2)
+
+    def test_joins(self):
+        pair = (2, ((0, 1, 2, 3, 1),))
+        answers = [renamed(pair, (1, 0)), least_form(renamed(pair, (1, 0))), beside((1, ()), pair),
+                   without_pipe(pair, 0)]
+        told = [(2, ((1, 0, 2, 3, 1),)), (2, ((0, 1, 2, 3, 1),)), (3, ((1, 2, 2, 3, 1),)), (2, ())]
         self.assertEqual(repr(answers), repr(told))
 
 

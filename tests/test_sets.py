@@ -43,7 +43,7 @@ def plain_shares(flow, some):
 
 
 def plain_fire(flow, held, fires):
-    """Return the tokens behind firings that eat all together ahead of giving, from outside of them, None if not able."""
+    """Return the tokens behind firings that eat together, from others only, ahead of giving, None if not able."""
     behind = list(held)
     for place, (one, other, give, eat, _) in enumerate(flow[1]):
         if fires[one] and fires[other]:
@@ -100,7 +100,8 @@ class SetTest(ErrorCase):
         self.assertEqual(as_one(LINE, (0, 2)), (2, ((0, 1, 4, 2, 0), (1, 0, 1, 2, 0))))
         self.assertEqual(as_one(LINE, (1, 2)), (2, ((0, 1, 1, 4, 0),)))
         self.assertEqual(as_one(LINE, (0, 1, 2)), (1, ()))
-        self.assertEqual(as_one(CROSS, (1, 3)), (3, ((0, 1, 1, 6, 4), (1, 2, 6, 1, 0), (0, 2, 1, 1, 9), (2, 2, 1, 1, 1))))
+        self.assertEqual(as_one(CROSS, (1, 3)),
+                         (3, ((0, 1, 1, 6, 4), (1, 2, 6, 1, 0), (0, 2, 1, 1, 9), (2, 2, 1, 1, 1))))
         self.assertEqual(as_one(CROSS, (2, 3)), (3, ((0, 1, 1, 2, 4), (1, 2, 1, 3, 5), (0, 2, 1, 6, 9))))
         self.assertEqual(as_one(CROSS, (0, 3))[1][:3], ((0, 1, 6, 2, 4), (1, 0, 1, 3, 5), (0, 2, 6, 1, 0)))
         self.assertEqual(as_one(RING, (0, 1)), (1, ()))
@@ -138,7 +139,8 @@ class SetTest(ErrorCase):
         self.assertEqual(within(LINE, (0, 1, 2)), LINE)
         self.assertEqual(within(LINE, (2,)), LONE)
         self.assertEqual(within(CROSS, (1, 3)), (2, ((0, 1, 1, 3, 5), (1, 1, 7, 7, 7))))
-        self.assertEqual(within(CROSS, (0, 2, 3)), (3, ((2, 2, 7, 7, 7), (2, 1, 6, 1, 0), (0, 1, 1, 1, 9), (1, 1, 1, 1, 1))))
+        self.assertEqual(within(CROSS, (0, 2, 3)),
+                         (3, ((2, 2, 7, 7, 7), (2, 1, 6, 1, 0), (0, 1, 1, 1, 9), (1, 1, 1, 1, 1))))
         self.assertEqual(within(OWN, (0,)), OWN)
 
     def test_within_any_flow(self):
