@@ -44,7 +44,7 @@ def slower_ring(steps, times, mean):
     worth = {second: 0 for _, second, _ in steps}
     last = {}
     moved = True
-    # A ring has a greater mean if its steps are worth more than 0 together. Only such rings close in what is best.
+    # A ring has a greater mean if its steps are worth more than 0 together; no other closes among the last steps.
     while moved:
         moved = False
         for step in steps:
